@@ -1,0 +1,1 @@
+"""wholefloors: floors that never repeat, told exactly."""
