@@ -1,8 +1,8 @@
 """The parts of a floor's window in which lie the mates of the places with one patch, unchecked."""
 
 from wholefloors.planes import area_of, areas_of, common_part, mate_spot, moved_lines, parted
-from wholefloors.wholes import number_by, number_less
-from wholefloors.windows import about_place, wholes_between
+from wholefloors.wholes import number_by, number_less, number_order
+from wholefloors.windows import View, about_place, place_near, wholes_between
 
 HERE = ((0, 0), (0, 0))
 
@@ -37,7 +37,7 @@ def part_of(view, radius, patch):
     """The corners of pieces, no two with a point in common, that make up the part of a patch."""
     kind = view.kind
     steps = near_places(view, radius)
-    if not all(step in steps for step in patch):
+    if not all(told in steps for told in patch):
         return []
     piece = view.corners
     for step in patch:
@@ -69,6 +69,17 @@ def all_parts(view, radius):
     for corners, patch in cells:
         found.setdefault(patch, []).append(corners)
     return found
+
+
+def place_among(kind, pieces):
+    """A place whose mate is in one of some pieces."""
+    # Where most room is, places with small numbers are found soonest.
+    best, most = pieces[0], (0, 0, 1)
+    for corners in pieces:
+        area = area_of(kind, corners)
+        if number_order(kind, area, most) > 0:
+            best, most = corners, area
+    return place_near(View(kind, best), HERE)
 
 
 def share_of(view, pieces):

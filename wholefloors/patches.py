@@ -1,12 +1,12 @@
 """The patches of a floor's places."""
 
-from wholefloors.cells import HERE, all_parts, common_with, near_places, part_of, share_of
+from wholefloors.cells import HERE, all_parts, common_with, near_places, part_of, place_among, share_of
 from wholefloors.checks import check_radius
 from wholefloors.errors import InvalidPair, InvalidPatch, NoPatch, NotInFloor
 from wholefloors.floors import check_floor, check_place, is_place
 from wholefloors.polygons import polygons_at
 from wholefloors.wholes import place_back, place_size, place_sum
-from wholefloors.windows import View, has_mate, place_near, places_about, view_of
+from wholefloors.windows import has_mate, places_about, view_of
 
 
 def near(floor, r):
@@ -33,7 +33,7 @@ def check_patch(floor, r, patch):
     """Raise what is due for a floor, a radius and a patch to it that are not right."""
     check_floor(floor)
     check_radius(r)
-    if not isinstance(patch, tuple) or not all(is_place(step) for step in patch):
+    if not isinstance(patch, tuple) or not all(is_place(told) for told in patch):
         raise InvalidPatch(patch)
     for at, step in enumerate(patch):
         if step == HERE or place_size(floor[0], step) > r or at > 0 and patch[at - 1] >= step:
@@ -74,7 +74,7 @@ def found(floor, r, patch):
     pieces = part_of(view_of(floor), r, patch)
     if not pieces:
         raise NoPatch(patch)
-    return place_near(View(floor[0], pieces[0]), HERE)
+    return place_among(floor[0], pieces)
 
 
 def how_often(floor, r, step):

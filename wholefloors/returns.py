@@ -1,12 +1,12 @@
 """Within which distance patches come again."""
 
-from wholefloors.cells import HERE, all_parts, part_of
+from wholefloors.cells import all_parts, part_of, place_among
 from wholefloors.checks import check_radius
 from wholefloors.covers import Cover
 from wholefloors.errors import NoPatch
 from wholefloors.floors import check_floor
 from wholefloors.patches import check_patch
-from wholefloors.windows import View, place_near, view_of
+from wholefloors.windows import view_of
 
 
 def again(floor, r, patch):
@@ -28,7 +28,7 @@ def lonely(floor, r, patch, far):
     left = _left_within(cover, far)
     if not left:
         return None
-    return place_near(View(floor[0], left[0][0]), HERE)
+    return place_among(floor[0], [corners for corners, _ in left])
 
 
 def all_again(floor, r):
