@@ -13,6 +13,8 @@ WRONG_POLYGONS = NONSENSE + [
     (at(0, 0), at(1, 0)),
     (at(0, 0), at(1, 0), at(2, 0)),
     (at(0, 0), at(1, 0), at(2, 0), at(0, 1)),
+    (at(0, 0), at(2, 0), at(2, 1), at(2, 2)),
+    (at(0, 0), at(2, 0), at(1, 1), at(0, 2)),
     (at(0, 0), at(0, 1), at(1, 0)),
     (at(1, 0), at(0, 1), at(0, 0)),
     (at(0, 0), at(1, 0), at(1, 1), at(0, 0)),
@@ -122,6 +124,8 @@ class PolygonsTest(Ways, unittest.TestCase):
                            [at(0, 0), ((0, 1, 1), (0, 1, 1)), at(2, 2), ((1, 1, 3), (1, 1, 3))],
                            (at(0, 3), at(0, -1), at(0, 2)), [at(5, 0), at(1, 0), at(3, 0), at(-2, 0)]):
                 self.refused(InvalidPair, points, polygon, kind, points)
+        for wrong in (None, True, 7, SQUARE[0][0][0], "text", {SQUARE[0]: 1}):
+            self.refused(InvalidPair, wrong, polygon, 2, wrong)
         almost = [at(0, 0), at(1, 0), ((2, 0, 1), (577, -408, 1))]
         self.assertEqual(len(polygon(2, almost)), 3)
 
@@ -306,6 +310,8 @@ class PolygonsTest(Ways, unittest.TestCase):
                 self.refused(InvalidPolygon, wrong, function, 2, SQUARE, wrong)
             self.refused(InvalidPolygon, wrong, sum_of, 2, [SQUARE, wrong, "third"])
             self.refused(InvalidPolygon, wrong, sum_of, 2, (wrong, SQUARE, None))
+        for wrong in (None, True, 7, "text", {SQUARE: 1}):
+            self.refused(InvalidPolygon, wrong, sum_of, 2, wrong)
 
     def test_wrong_points(self):
         for wrong in WRONG_POINTS:

@@ -37,17 +37,17 @@ def _is_formed(told):
     form = FORMS[told[0]]
     if len(told) != len(form) + 1:
         return False
-    for sort, part in zip(form, told[1:]):
-        if sort == "place" and not is_place(part):
+    for what, part in zip(form, told[1:]):
+        if what == "place" and not is_place(part):
             return False
-        if sort == "integer" and not (is_integer(part) and part >= 0):
+        if what == "integer" and not (is_integer(part) and part >= 0):
             return False
     return True
 
 
 def _inner(saying):
     """The list of the sayings in a saying, without those in them."""
-    return [part for sort, part in zip(FORMS[saying[0]], saying[1:]) if sort == "saying"]
+    return [part for what, part in zip(FORMS[saying[0]], saying[1:]) if what == "saying"]
 
 
 def check_saying(told):
