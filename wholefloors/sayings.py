@@ -57,7 +57,7 @@ def check_saying(told):
 
 
 def reach(kind, saying):
-    """The least radius of patches on which it hangs, as far as a saying's words tell, whether it is true."""
+    """The radius, by a saying's words, of the patches on which it hangs whether the saying is true."""
     check_kind(kind)
     check_saying(saying)
     return _reach(kind, saying)
