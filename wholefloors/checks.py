@@ -10,6 +10,11 @@ def is_integer(told):
     return isinstance(told, int) and not isinstance(told, bool)
 
 
+def is_whole(told):
+    """True if told is a pair of integers."""
+    return isinstance(told, tuple) and len(told) == 2 and is_integer(told[0]) and is_integer(told[1])
+
+
 def is_kind(told):
     """True if told is 2, 3 or 5."""
     return is_integer(told) and told in KINDS

@@ -1,7 +1,7 @@
 """Places and floors."""
 
-from wholefloors.checks import check_kind, is_integer, is_kind
-from wholefloors.errors import InvalidBox, InvalidFloor, InvalidPlace
+from wholefloors.checks import check_kind, is_kind, is_whole
+from wholefloors.errors import InvalidBox, InvalidFloor, InvalidPair, InvalidPlace
 from wholefloors.fields import is_number
 from wholefloors.planes import area_of, mate_spot, point_at
 from wholefloors.polygons import is_polygon, moved
@@ -14,15 +14,11 @@ ROOMS = {2: 8, 3: 12, 5: 5}
 
 def is_place(told):
     """True if told is a pair of pairs of integers."""
-    return _is_pair(told) and _is_whole(told[0]) and _is_whole(told[1])
+    return _is_pair(told) and is_whole(told[0]) and is_whole(told[1])
 
 
 def _is_pair(told):
     return isinstance(told, tuple) and len(told) == 2
-
-
-def _is_whole(told):
-    return _is_pair(told) and is_integer(told[0]) and is_integer(told[1])
 
 
 def is_floor(told):
@@ -34,6 +30,19 @@ def check_floor(told):
     """Raise InvalidFloor unless told is a floor."""
     if not is_floor(told):
         raise InvalidFloor(told)
+
+
+def check_floors(one, other):
+    """Raise what is due unless one and other are floors of one kind."""
+    check_floor(one)
+    check_floor(other)
+    check_one_kind(one, other)
+
+
+def check_one_kind(one, other):
+    """Raise InvalidPair unless two floors are of one kind."""
+    if one[0] != other[0]:
+        raise InvalidPair((one, other))
 
 
 def check_place(told):

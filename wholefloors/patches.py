@@ -24,6 +24,11 @@ def patch_of(floor, place, r):
     view = view_of(floor)
     if not has_mate(view, place):
         raise NotInFloor(place)
+    return patch_at(view, place, r)
+
+
+def patch_at(view, place, r):
+    """The patch of a place of a floor, unchecked."""
     back = place_back(place)
     steps = [place_sum(told, back) for told in places_about(view, place, r)]
     return tuple(sorted([step for step in steps if step != HERE]))

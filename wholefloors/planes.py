@@ -79,6 +79,15 @@ def moved_lines(kind, lines, back):
     return found
 
 
+def are_left(kind, lines, spots):
+    """True if no one of some spots is to the right of a line."""
+    for line in lines:
+        for a, b in heights_of(kind, line, spots):
+            if whole_sign(kind, a, b) < 0:
+                return False
+    return True
+
+
 def takes_rim(kind, line):
     """True if what is to the left of a line has the line itself too.
 
@@ -190,6 +199,17 @@ def areas_of(kind, pieces):
     for corners in pieces:
         total = number_sum(total, area_of(kind, corners))
     return total
+
+
+def centre_of(corners):
+    """A spot inside a polygon: the middle of its first three corners."""
+    common = lcm(corners[0][4], corners[1][4], corners[2][4])
+    total = [0, 0, 0, 0]
+    for spot in corners[:3]:
+        k = common // spot[4]
+        total = [total[at] + spot[at] * k for at in range(4)]
+    a, b, c, d = total
+    return (a, b, c, d, 3 * common)
 
 
 def least_at(kind, spots):

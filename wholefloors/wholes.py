@@ -14,6 +14,16 @@ def lowest(a, b, n):
     return (a // common, b // common, n // common)
 
 
+def pair_sum(p, q):
+    """Two pairs, added."""
+    return (p[0] + q[0], p[1] + q[1])
+
+
+def pair_less(p, q):
+    """One pair less another one."""
+    return (p[0] - q[0], p[1] - q[1])
+
+
 def pair_times(kind, p, q):
     """The product of two pairs."""
     a, b = p
