@@ -8,15 +8,15 @@ import unittest
 
 ROOT = os.path.dirname(os.path.dirname(os.path.abspath(__file__)))
 PACKAGE = os.path.join(ROOT, "wholefloors")
-LIBRARY = {"math": {"gcd", "lcm", "isqrt"}}
+LIBRARY = {"math": {"gcd", "lcm", "isqrt"}, "itertools": {"combinations"}}
 BUILTINS = set("""len range enumerate zip min max sum abs sorted reversed int str bool bytes list tuple dict set isinstance
 ord repr any all divmod ValueError""".split())
-METHODS = set("""append clear copy count endswith extend find get index insert isalnum isalpha isdigit items join keys pop
-remove replace reverse setdefault sort split startswith strip update values bit_length""".split())
+METHODS = set("""append clear copy count endswith extend find get index insert isalnum isalpha isdigit items join keys lstrip
+partition pop remove replace reverse rfind rstrip setdefault sort split startswith strip update values zfill bit_length""".split())
 BARRED = """type typing typing_extensions enum Enum IntEnum StrEnum Flag IntFlag Generic Protocol ABC ABCMeta namedtuple
 NamedTuple TypedDict TYPE_CHECKING abstractmethod dataclass mro elements open input law version_info with_traceback add_note
 register compile eval exec exit dir vars help globals locals sys os gc _wall""".split()
-EXPRESSIONS = (ast.Lambda, ast.Await, ast.Yield, ast.YieldFrom, ast.NamedExpr, ast.JoinedStr, ast.Starred)
+EXPRESSIONS = (ast.Lambda, ast.Await, ast.Yield, ast.YieldFrom, ast.NamedExpr, ast.JoinedStr)
 STATEMENTS = (ast.AsyncFunctionDef, ast.Global, ast.Nonlocal, ast.With, ast.Try, ast.Match, ast.AnnAssign, ast.Delete)
 
 
@@ -63,7 +63,9 @@ class LanguageTest(unittest.TestCase):
         for name, node in nodes(*EXPRESSIONS, *STATEMENTS):
             self.fail((name, node.lineno, ast.dump(node)))
         for name, node in nodes(ast.BinOp, ast.AugAssign):
-            self.assertNotIsInstance(node.op, (ast.Div, ast.Pow, ast.Mod, ast.MatMult), (name, node.lineno))
+            self.assertNotIsInstance(node.op, (ast.Div, ast.Mod, ast.MatMult), (name, node.lineno))
+            if isinstance(node.op, ast.Pow):
+                self.assertIn(node.right.value, range(65), (name, node.lineno))
         for name, node in nodes(ast.Constant):
             self.assertNotIsInstance(node.value, (float, complex), (name, node.lineno))
             if isinstance(node.value, str):
@@ -72,6 +74,11 @@ class LanguageTest(unittest.TestCase):
             for op, right in zip(node.ops, node.comparators):
                 if isinstance(op, (ast.Is, ast.IsNot)):
                     self.assertIsInstance(right, ast.Constant, (name, node.lineno))
+
+    def test_stars_stand_in_calls_before_names(self):
+        calls = [part for _, node in nodes(ast.Call) for part in node.args if isinstance(part, ast.Starred)]
+        self.assertTrue(all(isinstance(part.value, ast.Name) for part in calls))
+        self.assertEqual(len(calls), len(nodes(ast.Starred)))
 
     def test_sets_are_not_used(self):
         self.assertEqual(nodes(ast.Set, ast.SetComp), [])
@@ -164,7 +171,7 @@ class LanguageTest(unittest.TestCase):
 
     def test_library_names_are_called_by_position(self):
         for name, node in nodes(ast.Name):
-            if node.id in LIBRARY["math"]:
+            if any(node.id in names for names in LIBRARY.values()):
                 calls = [call for file, call in nodes(ast.Call) if file == name and call.func is node]
                 self.assertEqual(len(calls), 1, (name, node.lineno))
                 self.assertEqual(calls[0].keywords, [])

@@ -46,6 +46,16 @@ class Cover:
         return [(x, y) for wide, x in firsts for high, y in seconds if wide == radius or high == radius]
 
 
+def distance_of(cover):
+    """The least radius within which nothing of a cover's window is left."""
+    far = 0
+    cover.take(far)
+    while cover.left:
+        far += 1
+        cover.take(far)
+    return far
+
+
 def _size(box):
     """The greater side of a box."""
     return max(box[2] - box[0], box[3] - box[1])

@@ -1,7 +1,7 @@
 """Places and floors."""
 
 from wholefloors.checks import check_kind, is_kind, is_whole
-from wholefloors.errors import InvalidBox, InvalidFloor, InvalidPair, InvalidPlace
+from wholefloors.errors import InvalidBox, InvalidFloor, InvalidPair, InvalidPlace, NotInFloor
 from wholefloors.fields import is_number
 from wholefloors.planes import area_of, mate_spot, point_at
 from wholefloors.polygons import is_polygon, moved
@@ -49,6 +49,15 @@ def check_place(told):
     """Raise InvalidPlace unless told is a place."""
     if not is_place(told):
         raise InvalidPlace(told)
+
+
+def check_places_of(view, some):
+    """Raise NotInFloor for the first of some that is no place of a floor, for some itself if it is no tuple."""
+    if not isinstance(some, tuple):
+        raise NotInFloor(some)
+    for place in some:
+        if not is_place(place) or not has_mate(view, place):
+            raise NotInFloor(place)
 
 
 def check_box(kind, told):

@@ -43,22 +43,29 @@ def moved_takers(kind, takers, back):
     return found
 
 
-def rest_of(kind, piece, takers):
-    """What of a piece no taker has: pieces, no two with a point in common."""
-    left = [piece]
+def split_by(kind, pieces, takers):
+    """(inside, outside): of some pieces the corners of what a taker has, and the pieces of what none has."""
+    inside = []
+    left = pieces
     for lines, around in takers:
         finer = []
         for corners, box in left:
             if not boxes_meet(box, around):
                 finer.append((corners, box))
                 continue
-            inside, outside = parted(kind, corners, lines)
-            if inside is None:
+            within, beyond = parted(kind, corners, lines)
+            if within is None:
                 finer.append((corners, box))
             else:
-                finer.extend(pieces_of(kind, outside))
+                inside.append(within)
+                finer.extend(pieces_of(kind, beyond))
         left = finer
-    return left
+    return inside, left
+
+
+def rest_of(kind, piece, takers):
+    """What of a piece no taker has: pieces, no two with a point in common."""
+    return split_by(kind, [piece], takers)[1]
 
 
 def common_pieces(kind, piece, takers):

@@ -2,7 +2,7 @@
 
 from wholefloors.cells import all_parts, part_of, place_among
 from wholefloors.checks import check_radius
-from wholefloors.covers import Cover
+from wholefloors.covers import Cover, distance_of
 from wholefloors.errors import NoPatch
 from wholefloors.floors import check_floor
 from wholefloors.patches import check_patch
@@ -11,7 +11,7 @@ from wholefloors.windows import view_of
 
 def again(floor, r, patch):
     """The least distance within which a patch comes again."""
-    return _distance(_cover_by(floor, r, patch))
+    return distance_of(_cover_by(floor, r, patch))
 
 
 def is_again(floor, r, patch, far):
@@ -37,7 +37,7 @@ def all_again(floor, r):
     check_radius(r)
     view = view_of(floor)
     parts = all_parts(view, r)
-    return max([_distance(Cover(view, parts[patch])) for patch in parts])
+    return max([distance_of(Cover(view, parts[patch])) for patch in parts])
 
 
 def _cover_by(floor, r, patch):
@@ -48,16 +48,6 @@ def _cover_by(floor, r, patch):
     if not pieces:
         raise NoPatch(patch)
     return Cover(view, pieces)
-
-
-def _distance(cover):
-    """The least distance within which nothing is left."""
-    far = 0
-    cover.take(far)
-    while cover.left:
-        far += 1
-        cover.take(far)
-    return far
 
 
 def _left_within(cover, far):

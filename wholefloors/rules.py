@@ -2,13 +2,13 @@
 
 from wholefloors.cells import place_among
 from wholefloors.checks import check_radius
-from wholefloors.errors import InvalidRule, NotInFloor
-from wholefloors.floors import check_floor, is_place
+from wholefloors.errors import InvalidRule
+from wholefloors.floors import check_floor, check_places_of, is_place
 from wholefloors.growths import growths_of, ungrown_of
 from wholefloors.patches import patch_at
 from wholefloors.stretches import check_greater_unit
 from wholefloors.wholes import pair_times, place_sum
-from wholefloors.windows import has_mate, view_of
+from wholefloors.windows import view_of
 
 
 def rule(floor, unit, r):
@@ -34,7 +34,7 @@ def grown(floor, unit, r, some):
     """The ascending tuple of the places that come of some places of the floor by the growing rule."""
     _check_stretch(floor, unit, r)
     view = view_of(floor)
-    _check_places(view, some)
+    check_places_of(view, some)
     steps_of = {patch: steps for patch, steps in _rule(view, unit, r)}
     found = {}
     for x, y in some:
@@ -56,15 +56,6 @@ def _check_stretch(floor, unit, r):
     check_floor(floor)
     check_greater_unit(floor[0], unit)
     check_radius(r)
-
-
-def _check_places(view, some):
-    """Raise NotInFloor for the first of some that is no place of a floor."""
-    if not isinstance(some, tuple):
-        raise NotInFloor(some)
-    for place in some:
-        if not is_place(place) or not has_mate(view, place):
-            raise NotInFloor(place)
 
 
 def _check_form(told):

@@ -26,7 +26,7 @@ def is_saying(told):
         saying = waiting.pop()
         if not _is_formed(saying):
             return False
-        waiting.extend(_inner(saying))
+        waiting.extend(inner_of(saying))
     return True
 
 
@@ -45,7 +45,7 @@ def _is_formed(told):
     return True
 
 
-def _inner(saying):
+def inner_of(saying):
     """The list of the sayings in a saying, without those in them."""
     return [part for what, part in zip(FORMS[saying[0]], saying[1:]) if what == "saying"]
 
@@ -60,11 +60,12 @@ def reach(kind, saying):
     """The radius, by a saying's words, of the patches on which it hangs whether the saying is true."""
     check_kind(kind)
     check_saying(saying)
-    return _reach(kind, saying)
+    return reach_of(kind, saying)
 
 
-def _reach(kind, saying):
-    farthest = max([_reach(kind, inner) for inner in _inner(saying)], default=0)
+def reach_of(kind, saying):
+    """The reach of a saying, unchecked."""
+    farthest = max([reach_of(kind, inner) for inner in inner_of(saying)], default=0)
     if saying[0] in ("has", "step"):
         return place_size(kind, saying[1]) + farthest
     if saying[0] in ("some", "many"):
@@ -81,7 +82,7 @@ class Truths:
         self.within = []
         self.known = {}
         while len(self.within) < len(self.sayings):
-            inner = _inner(self.sayings[len(self.within)])
+            inner = inner_of(self.sayings[len(self.within)])
             self.within.append(list(range(len(self.sayings), len(self.sayings) + len(inner))))
             self.sayings.extend(inner)
 
