@@ -8,7 +8,7 @@ EXAMPLES = os.path.join(os.path.dirname(os.path.abspath(__file__)), "examples.tx
 class ExamplesTest(unittest.TestCase):
     def test_examples_of_the_document(self):
         result = doctest.testfile(EXAMPLES, module_relative=False)
-        self.assertEqual(result.attempted, 49)
+        self.assertEqual(result.attempted, 64)
         self.assertEqual(result.failed, 0)
 
 

@@ -3,7 +3,7 @@
 from wholefloors.checks import check_radius, is_integer, is_kind, is_whole
 from wholefloors.errors import InvalidMember, InvalidPair, InvalidRow, InvalidWord, NoWord, NotWithin
 from wholefloors.fields import check_number, is_number
-from wholefloors.spacings import Spacing, is_mate_in, length_of, member_in, members_between, stretch_times
+from wholefloors.spacings import Spacing, is_mate_in, length_of, member_from, members_between, stretch_times
 from wholefloors.stretches import check_greater_unit
 from wholefloors.wholes import number_by, number_order, pair_mate
 
@@ -99,7 +99,7 @@ def found_word(row, word):
     part = spacing.part_of(word)
     if part is None:
         raise NoWord(word)
-    return member_in(spacing.kind, part)
+    return member_from(spacing.kind, part, (0, 0, 1))
 
 
 def stretched_row(row, unit):

@@ -69,11 +69,11 @@ def is_mate_in(kind, pair, stretch):
     return number_order(kind, stretch[0], told) <= 0 and number_order(kind, told, stretch[1]) < 0
 
 
-def member_in(kind, stretch):
-    """The least pair from 0 on whose mate is in a stretch."""
+def member_from(kind, stretch, start):
+    """The least pair from a number on whose mate is in a stretch."""
     # No gap of a row of such a length is greater than twice the stretch unit.
     a, b, n = number_times(kind, STRETCH_UNITS[kind], scale_of(kind, length_of(stretch)))
-    return members_between(kind, stretch, ((0, 0, 1), (2 * a, 2 * b, n)))[0]
+    return members_between(kind, stretch, (start, number_sum(start, (2 * a, 2 * b, n))))[0]
 
 
 def steps_of(kind, length):

@@ -36,7 +36,7 @@ class Telling:
         seconds = wholes_between(self.kind, span, _between(self.view.upward, self.goal.upward))
         return sorted([(x, y) for x in firsts for y in seconds])
 
-    def parts(self, radius):
+    def parts_to(self, radius):
         """The ascending list of (patch, part) of the one to a radius, a part being pieces."""
         parts = all_parts(self.view, radius)
         return [(patch, pieces_of(self.kind, parts[patch])) for patch in sorted(parts)]
@@ -64,7 +64,7 @@ class Telling:
     def rule(self, radius):
         """The telling rule to a radius, or None."""
         found = []
-        for patch, part in self.parts(radius):
+        for patch, part in self.parts_to(radius):
             steps = []
             for step, taker in self.takers:
                 there = self.is_there(part, taker)
@@ -77,7 +77,7 @@ class Telling:
 
     def parting(self, radius):
         """(inside, outside, step): corners of what of one patch's part is taken to the other one's window, or None."""
-        for _, part in self.parts(radius):
+        for _, part in self.parts_to(radius):
             for step, taker in self.takers:
                 if self.is_there(part, taker) is None:
                     both = [self.sides(piece, taker) for piece in part]
