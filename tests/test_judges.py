@@ -8,10 +8,12 @@ from test_sayings import ALL, BESIDE, RIGHT, SAYINGS, UP, WRONG_SAYINGS, random_
 from test_told import NARROW, PAIRS
 from test_truths import ABOVE, ALIKE, FORTY, NONE, SOME, few
 from wholefloors.errors import InvalidFloor, InvalidPair, InvalidRadius, InvalidSaying
+from wholefloors.fields import number, times
 from wholefloors.floors import added, has, moved_floor, places
 from wholefloors.judges import judge_lines, judge_parted, judge_rule, judge_saying
 from wholefloors.lines import moved_onto, tellable
 from wholefloors.patches import patch_of
+from wholefloors.polygons import moved
 from wholefloors.sayings import holds, reach
 from wholefloors.told import parted, spread, telling_rule, tells
 from wholefloors.truths import decided
@@ -165,6 +167,38 @@ class JudgesTest(Ways, unittest.TestCase):
             half = (kind, polygon(kind, [((1, 0, 2), (0, 0, 1)), ((5, 0, 2), (0, 0, 1)), ((5, 0, 2), (1, 0, 1))]))
             self.assertEqual([judge_lines(aslant, half, ("never", j)) for j in (0, 1, 2)], [False, True, True])
             self.assertEqual(tellable(aslant, half), ("never", 1))
+
+    def test_windows_moved_by_any_points(self):
+        source = new_source(172)
+        count = [0, 0]
+        for floor in FLOORS + SOME:
+            kind = floor[0]
+            for n in (1, 1, 2, 2, 3, 4):
+                shift = tuple(number(source.randint(-9, 9), source.randint(-9, 9), n) for _ in range(2))
+                other = (kind, moved(kind, floor[1], shift))
+                self.assertIs(judge_lines(floor, other, tellable(floor, other)), True)
+                for j in range(len(other[1])):
+                    free = all(moved_onto(floor, i, other, j) is None for i in range(len(floor[1])))
+                    count[free] += 1
+                    self.assertIs(judge_lines(floor, other, ("never", j)), free)
+        self.assertGreater(min(count), 60)
+
+    def test_windows_stretched_by_any_numbers(self):
+        # The rims' numbers have common divisors that are no integers.
+        source = new_source(173)
+        count = [0, 0]
+        for floor in FLOORS + SOME:
+            kind = floor[0]
+            for _ in range(4):
+                factor = number(source.randint(1, 9), source.randint(0, 9), 1)
+                wide = (kind, polygon(kind, [(times(kind, factor, x), times(kind, factor, y)) for x, y in floor[1]]))
+                shift = tuple(number(source.randint(-9, 9), source.randint(-9, 9), 1) for _ in range(2))
+                for one, other in ((wide, (kind, moved(kind, floor[1], shift))), (floor, (kind, moved(kind, wide[1], shift)))):
+                    for j in range(len(other[1])):
+                        free = all(moved_onto(one, i, other, j) is None for i in range(len(one[1])))
+                        count[free] += 1
+                        self.assertIs(judge_lines(one, other, ("never", j)), free)
+        self.assertGreater(min(count), 20)
 
     def test_rules(self):
         for one, other in PAIRS:

@@ -26,6 +26,7 @@ def can_be_moved(kind, rim, goal):
     if _crossed(kind, _between(rim[0], rim[1]), (across, upward)) != (0, 0):
         return False
     # A move (s, t) does it if s times upward, less t times across, is x times upward, less y times across, by n.
+    # Not both p and q are 0, and no integer times p is p w, unless p is 0: so what is made has steps both ways.
     p, q = (upward[0] * n, upward[1] * n), (across[0] * n, across[1] * n)
     steps = _steps_of([p, pair_times(kind, p, W), q, pair_times(kind, q, W)])
     return _is_made(steps, _crossed(kind, (x, y), (across, upward)))
@@ -55,9 +56,9 @@ def _steps_of(pairs):
 
 
 def _is_made(steps, pair):
-    """True if a pair is made by (a, b) and (0, d), each times an integer."""
+    """True if a pair is made by (a, b) and (0, d), each times an integer, a and d not being 0."""
     a, b, d = steps
     s, t = pair
-    times = s // a if a else 0
+    times = s // a
     left = t - times * b
-    return times * a == s and left == (left // d * d if d else 0)
+    return times * a == s and left // d * d == left

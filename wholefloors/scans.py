@@ -31,24 +31,17 @@ def number_in(text):
     upper, stroke, lower = text.partition("/")
     if stroke and upper.startswith("(") and upper.endswith(")"):
         upper = upper[1:-1]
-    pair = _sum_in(upper)
-    n = integer_in(lower) if stroke else 1
-    if pair is None or n is None:
-        return None
-    told = (pair[0], pair[1], n)
+    a, b = _sum_in(upper)
+    told = (a, b, integer_in(lower) if stroke else 1)
     return told if is_number(told) and show_number(told) == text else None
 
 
 def _sum_in(text):
-    """(a, b) of a text A, A+Bw or A-Bw, written anyhow."""
-    a, b = text, "0"
-    if text.endswith("w"):
-        at = max(text.rfind("+"), text.rfind("-"))
-        if at < 0:
-            return None
-        a, b = text[:at], text[at:-1].lstrip("+")
-    pair = (integer_in(a), integer_in(b))
-    return None if pair[0] is None or pair[1] is None else pair
+    """(a, b) of a text A, A+Bw or A-Bw, written anyhow, None for what can not be read."""
+    if not text.endswith("w"):
+        return integer_in(text), 0
+    at = max(text.rfind("+"), text.rfind("-"))
+    return integer_in(text[:at]), integer_in(text[at:-1].lstrip("+"))
 
 
 def whole_in(text):
